@@ -79,3 +79,31 @@ func TestEmpty(t *testing.T) {
 		t.Error("a part that stands no times takes states:", got)
 	}
 }
+
+// TestSteps: what is reached without a byte is handed on once; what takes a byte goes on by the bytes of its set alone.
+func TestSteps(t *testing.T) {
+	g := graphOf(t, "([a-c]*|^)*")
+	counts := make([]int, g.Len())
+	g.Reach(g.Start(), automaton.PlaceOf(0, 1), func(at int) bool {
+		counts[at]++
+		return counts[at] == 1
+	})
+	takes := 0
+	for at, count := range counts {
+		if count == 0 {
+			t.Errorf("%d of %d is not reached", at, g.Len())
+		}
+		for b := range 256 {
+			next, ok := g.Take(at, byte(b))
+			if ok && (b < 'a' || b > 'c') || !ok && next != 0 || automaton.Accepts(at) && ok {
+				t.Errorf("%d goes on to %d by %d: %v", at, next, b, ok)
+			}
+			if ok {
+				takes++
+			}
+		}
+	}
+	if takes != 3 || counts[0] == 0 || !automaton.Accepts(0) {
+		t.Errorf("%d bytes are taken; handed on: %v", takes, counts)
+	}
+}

@@ -1,18 +1,5 @@
 package automaton
 
-import "pidgin/set"
-
-// Place says which ends of a subject a place in it is.
-type Place struct {
-	Begin bool
-	End   bool
-}
-
-// PlaceOf tells what the place at is, in a subject of that length.
-func PlaceOf(at, length int) Place {
-	return Place{Begin: at == 0, End: at == length}
-}
-
 // Set is the states that are reached at one place.
 type Set struct {
 	graph *Graph
@@ -28,7 +15,7 @@ func (g *Graph) NewSet() *Set {
 
 // Enter puts in what is reached where a match begins.
 func (s *Set) Enter(p Place) {
-	s.add(s.graph.start, p)
+	s.graph.Reach(s.graph.Start(), p, s.put)
 }
 
 // Follow makes it what is reached, at p, behind the byte b from what before has.
@@ -36,8 +23,8 @@ func (s *Set) Follow(before *Set, b byte, p Place) {
 	s.list = s.list[:0]
 	s.now++
 	for _, at := range before.list {
-		if from := s.graph.states[at]; from.kind == eat && set.Has(from.set, b) {
-			s.add(from.next, p)
+		if next, ok := s.graph.Take(at, b); ok {
+			s.graph.Reach(next, p, s.put)
 		}
 	}
 }
@@ -52,27 +39,14 @@ func (s *Set) Len() int {
 	return len(s.list)
 }
 
-// add puts in a state, once, and all that it leads to without a byte.
-func (s *Set) add(at int, p Place) {
+// put puts in a state, and tells whether it was not there.
+func (s *Set) put(at int) bool {
 	if s.has(at) {
-		return
+		return false
 	}
 	s.in[at] = s.now
 	s.list = append(s.list, at)
-	to := s.graph.states[at]
-	switch to.kind {
-	case fork:
-		s.add(to.next, p)
-		s.add(to.other, p)
-	case beginning:
-		if p.Begin {
-			s.add(to.next, p)
-		}
-	case ending:
-		if p.End {
-			s.add(to.next, p)
-		}
-	}
+	return true
 }
 
 // has tells whether a state is in it.
