@@ -88,14 +88,17 @@ func TestSteps(t *testing.T) {
 		counts[at]++
 		return counts[at] == 1
 	})
-	takes := 0
+	takes, eaters := 0, 0
 	for at, count := range counts {
+		if g.Eats(at) {
+			eaters++
+		}
 		if count == 0 {
 			t.Errorf("%d of %d is not reached", at, g.Len())
 		}
 		for b := range 256 {
 			next, ok := g.Take(at, byte(b))
-			if ok && (b < 'a' || b > 'c') || !ok && next != 0 || automaton.Accepts(at) && ok {
+			if ok && (b < 'a' || b > 'c') || !ok && next != 0 || ok && !g.Eats(at) {
 				t.Errorf("%d goes on to %d by %d: %v", at, next, b, ok)
 			}
 			if ok {
@@ -103,7 +106,7 @@ func TestSteps(t *testing.T) {
 			}
 		}
 	}
-	if takes != 3 || counts[0] == 0 || !automaton.Accepts(0) {
-		t.Errorf("%d bytes are taken; handed on: %v", takes, counts)
+	if takes != 3 || eaters != 1 || counts[0] == 0 || !automaton.Accepts(0) || g.Eats(0) {
+		t.Errorf("%d bytes are taken by %d; handed on: %v", takes, eaters, counts)
 	}
 }

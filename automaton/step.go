@@ -23,6 +23,11 @@ func Accepts(at int) bool {
 	return at == accepting
 }
 
+// Eats tells whether a state takes bytes: those of its set, if that has some.
+func (g *Graph) Eats(at int) bool {
+	return g.states[at].kind == eat
+}
+
 // Take tells where a state goes on if it takes a byte, and whether it does.
 func (g *Graph) Take(at int, b byte) (next int, ok bool) {
 	from := &g.states[at]
